@@ -1,0 +1,1 @@
+"""Pathfolios: a store of documents whole."""

@@ -1,0 +1,85 @@
+"""The interface: names, arguments, and the file in which each function and class is defined."""
+
+import ast
+import importlib
+import inspect
+import pathlib
+import unittest
+
+PACKAGE = pathlib.Path(__file__).resolve().parent.parent / "pathfolios"
+
+FUNCTIONS = {
+    "words": ("is_word(thing)", "is_number(thing)", "is_text(thing)"),
+    "values": ("is_plain(thing)", "is_value(thing)", "is_document(thing)", "is_like(one, other)", "key_of(plain)"),
+    "paths": ("is_step(thing)", "is_path(thing)"),
+    "finding": ("found_in(value, path)", "value_at(value, place)"),
+}
+
+CLASSES = {
+    "errors": ("FolioError()", "LackError()", "NoPaper(word, at)", "NoChange(word, at)", "NoKey(name, holder)",
+               "NoLead(holder, edition)", "NoTurn(word)", "Behind(mark)", "NoText(row, word)", "NoRow(row)",
+               "NoId(holder)", "NoMark(mark)", "NoName(name)", "NoHouse(house)", "NoStep(number)"),
+}
+
+DOCUMENT = ("tree", (("a", 1),))
+PATH = (("field", "a"),)
+
+# Calls by name: the arguments, and what is told.
+CALLS_BY_NAME = (
+    ("words", "is_word", {"thing": "a"}, True),
+    ("words", "is_number", {"thing": 1}, True),
+    ("words", "is_text", {"thing": ""}, True),
+    ("values", "is_plain", {"thing": 1}, True),
+    ("values", "is_value", {"thing": 1}, True),
+    ("values", "is_document", {"thing": DOCUMENT}, True),
+    ("values", "is_like", {"other": 1, "one": 2}, False),
+    ("values", "key_of", {"plain": 1}, (1, 1)),
+    ("paths", "is_step", {"thing": ("each",)}, True),
+    ("paths", "is_path", {"thing": (("each",),)}, True),
+    ("finding", "found_in", {"path": PATH, "value": DOCUMENT}, ((("a",), 1),)),
+    ("finding", "value_at", {"place": ("a",), "value": DOCUMENT}, 1),
+)
+
+
+def defined_in(name, kind):
+    tree = ast.parse((PACKAGE / (name + ".py")).read_text(encoding="utf-8"))
+    return [node.name for node in tree.body if isinstance(node, kind)]
+
+
+class Interface(unittest.TestCase):
+    def test_functions(self):
+        for module, calls in FUNCTIONS.items():
+            held = importlib.import_module("pathfolios." + module)
+            for call in calls:
+                name = call.partition("(")[0]
+                with self.subTest(call):
+                    self.assertEqual(name + str(inspect.signature(getattr(held, name))), call)
+                    self.assertIn(name, defined_in(module, ast.FunctionDef))
+
+    def test_classes(self):
+        for module, calls in CLASSES.items():
+            held = importlib.import_module("pathfolios." + module)
+            for call in calls:
+                name = call.partition("(")[0]
+                with self.subTest(call):
+                    self.assertIn(name, defined_in(module, ast.ClassDef))
+                    if "__init__" in vars(getattr(held, name)):
+                        self.assertEqual(name + str(inspect.signature(getattr(held, name))), call)
+                    else:
+                        self.assertEqual(name + "()", call)
+
+    def test_calls_by_name(self):
+        for module, name, arguments, told in CALLS_BY_NAME:
+            with self.subTest(name):
+                held = getattr(importlib.import_module("pathfolios." + module), name)
+                answer = held(**arguments)
+                self.assertEqual(repr(answer), repr(told))
+
+    def test_each_function_is_called_by_name(self):
+        called = sorted([module + "." + name for module, name, _, _ in CALLS_BY_NAME])
+        told = sorted([module + "." + call.partition("(")[0] for module, calls in FUNCTIONS.items() for call in calls])
+        self.assertEqual(called, told)
+
+
+if __name__ == "__main__":
+    unittest.main()
