@@ -19,3 +19,13 @@ def holding(word, things):
     if word == "tree":
         return ("tree", tuple([(marker, things[marker]) for marker in markers]))
     return ("row", tuple([things[marker] for marker in markers]))
+
+
+def with_thing(value, marker, held):
+    """A TREE or a ROW that has held by a MARKER from now on; that has there nothing any more where held is None."""
+    things = things_of(value)
+    if held is None:
+        del things[marker]
+    else:
+        things[marker] = held
+    return holding(value[0], things)

@@ -13,6 +13,13 @@ FUNCTIONS = {
     "values": ("is_plain(thing)", "is_value(thing)", "is_document(thing)", "is_like(one, other)", "key_of(plain)"),
     "paths": ("is_step(thing)", "is_path(thing)"),
     "finding": ("found_in(value, path)", "value_at(value, place)"),
+    "probes": ("is_test(thing)",),
+    "meeting": ("meets(document, test)", "count_parts(test)"),
+    "undoing": ("is_undoing(thing)", "undone(document, undoing)", "undoing_between(document, other)"),
+    "changes": ("is_deed(thing)", "is_change(thing)"),
+    "changing": ("changed(document, change, *, told=False)",),
+    "pathtexts": ("value_text(value)", "path_text(path)", "test_text(test)", "change_text(change)"),
+    "pathreadings": ("value_read(text)", "path_read(text)", "test_read(text)", "change_read(text)"),
 }
 
 CLASSES = {
@@ -22,7 +29,10 @@ CLASSES = {
 }
 
 DOCUMENT = ("tree", (("a", 1),))
+OTHER = ("tree", (("a", 2),))
 PATH = (("field", "a"),)
+BACK = ("back", ("a",), 2)
+DEED = ("set", PATH, 2)
 
 # Calls by name: the arguments, and what is told.
 CALLS_BY_NAME = (
@@ -38,6 +48,23 @@ CALLS_BY_NAME = (
     ("paths", "is_path", {"thing": (("each",),)}, True),
     ("finding", "found_in", {"path": PATH, "value": DOCUMENT}, ((("a",), 1),)),
     ("finding", "value_at", {"place": ("a",), "value": DOCUMENT}, 1),
+    ("probes", "is_test", {"thing": ("there", PATH)}, True),
+    ("meeting", "meets", {"test": ("like", PATH, 1), "document": DOCUMENT}, True),
+    ("meeting", "count_parts", {"test": ("and", ())}, 1),
+    ("undoing", "is_undoing", {"thing": (BACK,)}, True),
+    ("undoing", "undone", {"undoing": (BACK,), "document": DOCUMENT}, OTHER),
+    ("undoing", "undoing_between", {"other": OTHER, "document": DOCUMENT}, (BACK,)),
+    ("changes", "is_deed", {"thing": DEED}, True),
+    ("changes", "is_change", {"thing": (None, (DEED,))}, True),
+    ("changing", "changed", {"told": False, "change": (None, (DEED,)), "document": DOCUMENT}, OTHER),
+    ("pathtexts", "value_text", {"value": DOCUMENT}, "{a:1}"),
+    ("pathtexts", "path_text", {"path": PATH}, "a"),
+    ("pathtexts", "test_text", {"test": ("there", PATH)}, "there(a)"),
+    ("pathtexts", "change_text", {"change": (None, (DEED,))}, ">set(a,2)"),
+    ("pathreadings", "value_read", {"text": "{a:1}"}, DOCUMENT),
+    ("pathreadings", "path_read", {"text": "a"}, PATH),
+    ("pathreadings", "test_read", {"text": "there(a)"}, ("there", PATH)),
+    ("pathreadings", "change_read", {"text": ">set(a,2)"}, (None, (DEED,))),
 )
 
 
