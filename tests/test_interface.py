@@ -20,6 +20,13 @@ FUNCTIONS = {
     "changing": ("changed(document, change, *, told=False)",),
     "pathtexts": ("value_text(value)", "path_text(path)", "test_text(test)", "change_text(change)"),
     "pathreadings": ("value_read(text)", "path_read(text)", "test_read(text)", "change_read(text)"),
+    "shapes": ("is_move(thing)", "is_moves(thing)", "is_shapes(thing)", "moved(document, move)"),
+    "leading": ("led(document, shapes, *, since, upto=None, holder='')", "view_of(stands)", "led_all(stands)"),
+    "entries": ("is_index(thing)", "is_entry(thing)", "is_stands(thing)", "is_history(thing)"),
+    "keys": ("keys_of(document, index)", "rows_of(stands, name)"),
+    "standing": ("is_fit(stands)", "let_in(stands, entry)"),
+    "histories": ("is_right(history)", "last_mark(history)", "stands_at(history, *, mark=None)",
+                  "view_at(history, *, mark=None)", "history_on(history, entry)", "forgotten(history, mark)"),
 }
 
 CLASSES = {
@@ -33,6 +40,11 @@ OTHER = ("tree", (("a", 2),))
 PATH = (("field", "a"),)
 BACK = ("back", ("a",), 2)
 DEED = ("set", PATH, 2)
+INDEX = ("by", PATH, True, None)
+STANDS = ((("x", DOCUMENT, 0),), (INDEX,), ((),))
+ENTRY = ("gone", "x")
+BARE = ((), (INDEX,), ((),))
+HISTORY = (3, STANDS, (ENTRY,))
 
 # Calls by name: the arguments, and what is told.
 CALLS_BY_NAME = (
@@ -65,6 +77,28 @@ CALLS_BY_NAME = (
     ("pathreadings", "path_read", {"text": "a"}, PATH),
     ("pathreadings", "test_read", {"text": "there(a)"}, ("there", PATH)),
     ("pathreadings", "change_read", {"text": ">set(a,2)"}, (None, (DEED,))),
+    ("shapes", "is_move", {"thing": ("cut", "a")}, True),
+    ("shapes", "is_moves", {"thing": (("cut", "a"),)}, True),
+    ("shapes", "is_shapes", {"thing": ((("cut", "a"),),)}, True),
+    ("shapes", "moved", {"move": ("put", "a", 2), "document": ("tree", ())}, OTHER),
+    ("leading", "led", {"holder": "x", "upto": 1, "since": 0, "shapes": ((),), "document": DOCUMENT}, DOCUMENT),
+    ("leading", "view_of", {"stands": STANDS}, (("x", DOCUMENT),)),
+    ("leading", "led_all", {"stands": STANDS}, ((("x", DOCUMENT, 1),), (INDEX,), ((),))),
+    ("entries", "is_index", {"thing": INDEX}, True),
+    ("entries", "is_entry", {"thing": ENTRY}, True),
+    ("entries", "is_stands", {"thing": STANDS}, True),
+    ("entries", "is_history", {"thing": HISTORY}, True),
+    ("keys", "keys_of", {"index": INDEX, "document": DOCUMENT}, ((1, 1),)),
+    ("keys", "rows_of", {"name": "by", "stands": STANDS}, (((1, 1), "x"),)),
+    ("standing", "is_fit", {"stands": STANDS}, True),
+    ("standing", "let_in", {"entry": ENTRY, "stands": STANDS}, BARE),
+    ("histories", "is_right", {"history": HISTORY}, True),
+    ("histories", "last_mark", {"history": HISTORY}, 4),
+    ("histories", "stands_at", {"mark": 3, "history": HISTORY}, STANDS),
+    ("histories", "view_at", {"mark": 3, "history": HISTORY}, (("x", DOCUMENT),)),
+    ("histories", "history_on", {"entry": ("bare", "by"), "history": HISTORY},
+     (3, STANDS, (ENTRY, ("bare", "by")))),
+    ("histories", "forgotten", {"mark": 4, "history": HISTORY}, (4, BARE, ())),
 )
 
 

@@ -181,8 +181,49 @@ class Statements(unittest.TestCase):
             self.assertTrue(node.exc is None or isinstance(node.exc, ast.Call), where)
             if node.exc is not None:
                 self.assertIsInstance(node.exc.func, ast.Name, where)
+
+    def test_only_own_errors_are_caught(self):
+        own = [node.name for node in TREES[PACKAGE / "errors.py"].body if isinstance(node, ast.ClassDef)]
         for where, _, node in walk(ast.ExceptHandler):
             self.assertIsInstance(node.type, (ast.Name, ast.Tuple), where)
+            for part in node.type.elts if isinstance(node.type, ast.Tuple) else [node.type]:
+                self.assertIn(part.id, own, where)
+            self.assertIsNone(node.name, where)
+
+    def test_what_is_iterated_on_the_spot(self):
+        takers = ("list", "tuple", "dict", "sorted", "sum", "any", "all", "enumerate", "zip")
+        for path, tree in TREES.items():
+            fine = [node.iter for node in ast.walk(tree) if isinstance(node, (ast.For, ast.comprehension))]
+            for node in ast.walk(tree):
+                if isinstance(node, ast.Call) and isinstance(node.func, ast.Name) and node.func.id in takers:
+                    fine += node.args[:1]
+            for node in ast.walk(tree):
+                if isinstance(node, ast.Call):
+                    name = getattr(node.func, "id", getattr(node.func, "attr", ""))
+                    if name in ("zip", "enumerate", "reversed", "range", "items", "keys", "values"):
+                        self.assertIn(node, fine, path.name + ":" + str(node.lineno))
+
+    def test_sets_are_only_sorted_and_counted(self):
+        for path, tree in TREES.items():
+            fine = []
+            for node in ast.walk(tree):
+                if isinstance(node, ast.Call) and isinstance(node.func, ast.Name) and node.func.id in ("sorted", "len"):
+                    part = node.args[0]
+                    fine += [part] + ([part.left, part.right] if isinstance(part, ast.BinOp) else [])
+            for node in ast.walk(tree):
+                if isinstance(node, ast.Call) and isinstance(node.func, ast.Name) and node.func.id == "set":
+                    self.assertIn(node, fine, path.name + ":" + str(node.lineno))
+
+    def test_keys_of_sorting_are_lambdas_of_one_parameter(self):
+        lambdas = []
+        for where, _, node in walk(ast.Call):
+            for keyword in node.keywords:
+                if keyword.arg == "key":
+                    self.assertIsInstance(keyword.value, ast.Lambda, where)
+                    self.assertEqual(len(keyword.value.args.args), 1, where)
+                    lambdas.append(keyword.value)
+        for where, _, node in walk(ast.Lambda):
+            self.assertIn(node, lambdas, where)
 
 
 class Names(unittest.TestCase):
