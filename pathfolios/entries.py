@@ -57,9 +57,7 @@ def is_stands(thing):
 
 def is_placed(thing, newest):
     """Whether any thing is a triple (id, document, edition) of no edition above the NEWEST."""
-    if not isinstance(thing, tuple) or len(thing) != 3:
-        return False
-    return is_entry(("put",) + thing) and thing[2] <= newest
+    return isinstance(thing, tuple) and is_entry(("put",) + thing) and thing[2] <= newest
 
 
 def do_names_rise(rows):

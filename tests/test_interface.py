@@ -6,6 +6,8 @@ import inspect
 import pathlib
 import unittest
 
+from pathfolios.keeping import Kept
+
 PACKAGE = pathlib.Path(__file__).resolve().parent.parent / "pathfolios"
 
 FUNCTIONS = {
@@ -27,12 +29,25 @@ FUNCTIONS = {
     "standing": ("is_fit(stands)", "let_in(stands, entry)"),
     "histories": ("is_right(history)", "last_mark(history)", "stands_at(history, *, mark=None)",
                   "view_at(history, *, mark=None)", "history_on(history, entry)", "forgotten(history, mark)"),
+    "indexchecker": ("lets_rows(stands, name, thing)",),
+    "asks": ("asked_all(stands, test, *, order=None)",),
+    "plans": ("plans_for(stands, test)", "plan_ids(stands, plan)", "asked_by(stands, test, plan, *, order=None)"),
+    "planchecker": ("lets_plan(stands, test, thing)",),
+    "folding": ("folded(rows, events)", "shortened(rows, events)"),
+    "streams": ("meeting_at(history, test, *, mark=None)",
+                "stream(history, test, *, since, upto=None, short=False)"),
 }
 
 CLASSES = {
     "errors": ("FolioError()", "LackError()", "NoPaper(word, at)", "NoChange(word, at)", "NoKey(name, holder)",
                "NoLead(holder, edition)", "NoTurn(word)", "Behind(mark)", "NoText(row, word)", "NoRow(row)",
                "NoId(holder)", "NoMark(mark)", "NoName(name)", "NoHouse(house)", "NoStep(number)"),
+    "keeping": ("Kept(stands)",),
+}
+
+METHODS = {
+    ("keeping", "Kept"): ("done(self, entry)", "stands(self)", "rows(self, name)", "__len__(self)", "__str__(self)",
+                          "__eq__(self, other)", "__ne__(self, other)"),
 }
 
 DOCUMENT = ("tree", (("a", 1),))
@@ -99,6 +114,18 @@ CALLS_BY_NAME = (
     ("histories", "history_on", {"entry": ("bare", "by"), "history": HISTORY},
      (3, STANDS, (ENTRY, ("bare", "by")))),
     ("histories", "forgotten", {"mark": 4, "history": HISTORY}, (4, BARE, ())),
+    ("indexchecker", "lets_rows", {"thing": (((1, 1), "x"),), "name": "by", "stands": STANDS}, 1),
+    ("asks", "asked_all", {"order": PATH, "test": ("there", PATH), "stands": STANDS}, (("x", DOCUMENT),)),
+    ("plans", "plans_for", {"test": ("and", ()), "stands": STANDS}, (("all",),)),
+    ("plans", "plan_ids", {"plan": ("all",), "stands": STANDS}, ("x",)),
+    ("plans", "asked_by", {"order": PATH, "plan": ("all",), "test": ("there", PATH), "stands": STANDS},
+     (("x", DOCUMENT),)),
+    ("planchecker", "lets_plan", {"thing": ("all",), "test": ("and", ()), "stands": STANDS}, True),
+    ("folding", "folded", {"events": (("out", 1, "x"),), "rows": (("x", DOCUMENT),)}, ()),
+    ("folding", "shortened", {"events": (("out", 1, "x"),), "rows": (("x", DOCUMENT),)}, (("out", 1, "x"),)),
+    ("streams", "meeting_at", {"mark": 3, "test": ("and", ()), "history": HISTORY}, (("x", DOCUMENT),)),
+    ("streams", "stream", {"short": True, "upto": 4, "since": 3, "test": ("and", ()), "history": HISTORY},
+     (("out", 4, "x"),)),
 )
 
 
@@ -128,6 +155,28 @@ class Interface(unittest.TestCase):
                         self.assertEqual(name + str(inspect.signature(getattr(held, name))), call)
                     else:
                         self.assertEqual(name + "()", call)
+
+    def test_methods_stand_in_the_class_itself(self):
+        for (module, name), calls in METHODS.items():
+            held = getattr(importlib.import_module("pathfolios." + module), name)
+            for call in calls:
+                with self.subTest(name + "." + call):
+                    method = call.partition("(")[0]
+                    self.assertIn(method, vars(held))
+                    self.assertEqual(method + str(inspect.signature(vars(held)[method])), call)
+
+    def test_methods_by_name(self):
+        kept = Kept(stands=STANDS)
+        self.assertEqual(kept.rows(name="by"), (((1, 1), "x"),))
+        self.assertEqual(kept.done(entry=ENTRY), (0, 1))
+        self.assertEqual(kept.stands(), BARE)
+
+    def test_what_stands_behind_a_star_has_no_place(self):
+        for module, calls in FUNCTIONS.items():
+            for call in [call for call in calls if "*" in call]:
+                held = getattr(importlib.import_module("pathfolios." + module), call.partition("(")[0])
+                many = len(call.partition("(")[2].partition(", *")[0].split(", "))
+                self.assertRaises(TypeError, held, *[None] * (many + 1))
 
     def test_calls_by_name(self):
         for module, name, arguments, told in CALLS_BY_NAME:
