@@ -2,3 +2,6 @@
 
 # The TEST that each DOCUMENT MEETS.
 NONE_BUT = ("and", ())
+
+# What STANDS where nothing does: what each LOG begins at.
+NOTHING = ((), (), ())

@@ -30,6 +30,14 @@ def entries_between(history, since, upto):
     return entries[since - first:upto - first]
 
 
+def stands_along(stands, entries):
+    """A list of what STANDS ahead of ENTRIES and behind each of them, from what STANDS on."""
+    along = [stands]
+    for entry in entries:
+        along.append(stands_behind(along[-1], entry))
+    return along
+
+
 def stands_at(history, *, mark=None):
     """What STANDS at a MARK, at the LAST where it is None; or NoMark."""
     first, stands, _ = history
@@ -37,9 +45,7 @@ def stands_at(history, *, mark=None):
     upto = last if mark is None else mark
     if upto < first or upto > last:
         raise NoMark(mark)
-    for entry in entries_between(history, first, upto):
-        stands = stands_behind(stands, entry)
-    return stands
+    return stands_along(stands, entries_between(history, first, upto))[-1]
 
 
 def view_at(history, *, mark=None):

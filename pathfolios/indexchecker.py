@@ -1,15 +1,14 @@
 """Any thing looked at as the ROWS of an INDEX."""
 
-from pathfolios.errors import NoPaper
 from pathfolios.keys import index_of, is_key, keys_of
 from pathfolios.leading import view_of
+from pathfolios.papers import claim, claim_none
 
 
 def lets_rows(stands, name, thing):
     """How many ROWS any thing has, where it is those of the INDEX of a name; or NoName, NoPaper."""
     index = index_of(stands, name)
-    if not are_rows(thing):
-        raise NoPaper("shape", -1)
+    claim("shape", are_rows(thing))
     keys = {holder: keys_of(document, index) for holder, document in view_of(stands)}
     claim_none("rise", [False] + [other <= row for row, other in zip(thing, thing[1:])])
     claim_none("id", [holder not in keys for key, holder in thing])
@@ -26,13 +25,6 @@ def are_rows(thing):
 def is_index_row(thing):
     """Whether any thing is a pair of a KEY by kind and a text."""
     return isinstance(thing, tuple) and len(thing) == 2 and is_key(thing[0]) and isinstance(thing[1], str)
-
-
-def claim_none(word, faults):
-    """Refuses the first number, with a word, of which there is a fault."""
-    for number, is_fault in enumerate(faults):
-        if is_fault:
-            raise NoPaper(word, number)
 
 
 def do_lack(rows, holder, keys):

@@ -1,7 +1,7 @@
 """Any thing looked at as a PLAN for a TEST."""
 
-from pathfolios.errors import NoPaper
 from pathfolios.keys import index_or_none, is_key
+from pathfolios.papers import claim
 from pathfolios.plans import conjuncts_of, is_bounding, is_index_let
 from pathfolios.values import key_of
 from pathfolios.words import is_word
@@ -9,20 +9,16 @@ from pathfolios.words import is_word
 
 def lets_plan(stands, test, thing):
     """True where a TEST LETS any thing as a PLAN at what STANDS; or NoPaper."""
-    if not is_plan(thing):
-        raise NoPaper("shape", -1)
+    claim("shape", is_plan(thing))
     if thing[0] == "all":
         return True
     _, name, low, high = thing
     index = index_or_none(stands, name)
-    if index is None:
-        raise NoPaper("name", -1)
+    claim("name", index is not None)
     conjuncts = conjuncts_of(test)
-    if not is_index_let(index, conjuncts):
-        raise NoPaper("test", -1)
+    claim("test", is_index_let(index, conjuncts))
     bounding = [conjunct for conjunct in conjuncts if is_bounding(conjunct, index[1])]
-    if not any([is_bound_let(conjunct, low, high) for conjunct in bounding]):
-        raise NoPaper("bounds", -1)
+    claim("bounds", any([is_bound_let(conjunct, low, high) for conjunct in bounding]))
     return True
 
 

@@ -65,6 +65,11 @@ def stands_behind(stands, entry):
     return (documents, indexes, shapes + (entry[1],))
 
 
+def documents_of(stands):
+    """A dict by ids of the documents as they STAND, of whatever edition."""
+    return {holder: document for holder, document, edition in stands[0]}
+
+
 def rows_with(rows, row):
     """Rising rows of unlike names with one more, in the place of that of its name."""
     return tuple(sorted(rows_without(rows, row[0]) + (row,)))

@@ -6,6 +6,7 @@ import inspect
 import pathlib
 import unittest
 
+from pathfolios.houses import Houses
 from pathfolios.keeping import Kept
 
 PACKAGE = pathlib.Path(__file__).resolve().parent.parent / "pathfolios"
@@ -36,6 +37,11 @@ FUNCTIONS = {
     "folding": ("folded(rows, events)", "shortened(rows, events)"),
     "streams": ("meeting_at(history, test, *, mark=None)",
                 "stream(history, test, *, since, upto=None, short=False)"),
+    "streamchecker": ("is_event(thing)", "lets_stream(history, test, thing, *, since, upto=None)"),
+    "joins": ("joined(base, ours, theirs)", "joined_rows(base, ours, theirs)", "joined_stands(base, ours, theirs)"),
+    "joinchecker": ("lets_join(base, ours, theirs, thing)",),
+    "housechecker": ("lets_houses(thing)",),
+    "askers": ("are_asker_rows(thing)", "judged(history, rows)"),
 }
 
 CLASSES = {
@@ -43,11 +49,19 @@ CLASSES = {
                "NoLead(holder, edition)", "NoTurn(word)", "Behind(mark)", "NoText(row, word)", "NoRow(row)",
                "NoId(holder)", "NoMark(mark)", "NoName(name)", "NoHouse(house)", "NoStep(number)"),
     "keeping": ("Kept(stands)",),
+    "houses": ("Houses(many=3)",),
 }
 
 METHODS = {
     ("keeping", "Kept"): ("done(self, entry)", "stands(self)", "rows(self, name)", "__len__(self)", "__str__(self)",
                           "__eq__(self, other)", "__ne__(self, other)"),
+    ("houses", "Houses"): ("is_up(self, house)", "does_lead(self, house)", "is_linked(self, house, other)",
+                           "term_of(self, house)", "done_of(self, house)", "vote_of(self, house)",
+                           "log_of(self, house)", "leaders(self)", "__len__(self)", "__str__(self)",
+                           "__eq__(self, other)", "__ne__(self, other)", "stand(self, house)",
+                           "write(self, house, entry)", "send(self, house, other)", "fall(self, house)",
+                           "rise(self, house)", "part(self, house, other)", "meet(self, house, other)",
+                           "read(self, house, *, mark=0)", "latest(self, house)", "paper(self)"),
 }
 
 DOCUMENT = ("tree", (("a", 1),))
@@ -126,6 +140,17 @@ CALLS_BY_NAME = (
     ("streams", "meeting_at", {"mark": 3, "test": ("and", ()), "history": HISTORY}, (("x", DOCUMENT),)),
     ("streams", "stream", {"short": True, "upto": 4, "since": 3, "test": ("and", ()), "history": HISTORY},
      (("out", 4, "x"),)),
+    ("streamchecker", "is_event", {"thing": ("out", 4, "x")}, True),
+    ("streamchecker", "lets_stream", {"upto": 4, "since": 3, "thing": (("out", 4, "x"),), "test": ("and", ()),
+                                      "history": HISTORY}, 1),
+    ("joins", "joined", {"theirs": OTHER, "ours": None, "base": None}, (OTHER, OTHER, ())),
+    ("joins", "joined_rows", {"theirs": (("x", OTHER),), "ours": (), "base": ()},
+     ((("x", OTHER),), (("x", OTHER),), ())),
+    ("joins", "joined_stands", {"theirs": BARE, "ours": STANDS, "base": STANDS}, (BARE, BARE, ())),
+    ("joinchecker", "lets_join", {"thing": (OTHER, OTHER, ()), "theirs": OTHER, "ours": None, "base": None}, 0),
+    ("housechecker", "lets_houses", {"thing": ((0, None, (), 0),) * 3}, 0),
+    ("askers", "are_asker_rows", {"thing": (("write", ENTRY),)}, True),
+    ("askers", "judged", {"rows": (("write", ENTRY),), "history": HISTORY}, ("fits", (4,))),
 )
 
 
@@ -170,6 +195,19 @@ class Interface(unittest.TestCase):
         self.assertEqual(kept.rows(name="by"), (((1, 1), "x"),))
         self.assertEqual(kept.done(entry=ENTRY), (0, 1))
         self.assertEqual(kept.stands(), BARE)
+        houses = Houses(many=4)
+        for deed, arguments, told in (
+                ("stand", {"house": 0}, (1, (0, 1, 2, 3))), ("write", {"entry": ("shape", ()), "house": 0}, 1),
+                ("send", {"other": 2, "house": 0}, ((), 0)), ("send", {"other": 1, "house": 0}, ((), 1)),
+                ("read", {"mark": 1, "house": 1}, (1, (0, ((), (), ()), (("shape", ()),)))),
+                ("latest", {"house": 0}, (1, (0, ((), (), ()), (("shape", ()),)))),
+                ("part", {"other": 3, "house": 0}, True), ("is_linked", {"other": 3, "house": 0}, False),
+                ("meet", {"other": 3, "house": 0}, True), ("fall", {"house": 3}, None), ("is_up", {"house": 3}, False),
+                ("rise", {"house": 3}, None), ("does_lead", {"house": 0}, True), ("term_of", {"house": 0}, 1),
+                ("done_of", {"house": 0}, 1), ("vote_of", {"house": 3}, 0),
+                ("log_of", {"house": 0}, ((1, ("shape", ())),))):
+            self.assertEqual(repr(getattr(houses, deed)(**arguments)), repr(told), deed)
+        self.assertRaises(TypeError, houses.read, 0, 1)
 
     def test_what_stands_behind_a_star_has_no_place(self):
         for module, calls in FUNCTIONS.items():

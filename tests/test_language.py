@@ -197,6 +197,8 @@ class Statements(unittest.TestCase):
             for node in ast.walk(tree):
                 if isinstance(node, ast.Call) and isinstance(node.func, ast.Name) and node.func.id in takers:
                     fine += node.args[:1]
+                if isinstance(node, ast.Call) and isinstance(node.func, ast.Name) and node.func.id == "len":
+                    fine += [part for part in node.args if getattr(getattr(part, "func", None), "id", "") == "range"]
             for node in ast.walk(tree):
                 if isinstance(node, ast.Call):
                     name = getattr(node.func, "id", getattr(node.func, "attr", ""))
