@@ -84,8 +84,8 @@ class Houses:
 
     def write(self, house, entry):
         """Writes an ENTRY: the number of its pair; or NoHouse, NoTurn, or refused as it isn't LET IN."""
-        one = self.house_leading(house)
-        let_in(self.stands_of(house), entry)
+        let_in(self.stands_to_write(house), entry)
+        one = self.held[house]
         one.pairs = one.pairs + ((one.term, entry),)
         return len(one.pairs)
 
@@ -216,9 +216,9 @@ class Houses:
         held = [number for number in numbers if self.are_most(1 + how_many_hold(one, number))]
         return max(held, default=0)
 
-    def stands_of(self, house):
-        """What STANDS behind the whole LOG of a house; or NoHouse."""
-        return stands_at(history_by(self.log_of(house)))
+    def stands_to_write(self, house):
+        """What STANDS behind the whole LOG of a house that LEADS; or NoHouse, NoTurn."""
+        return stands_at(history_by(self.house_leading(house).pairs))
 
     def facts(self):
         """All that is so of them: a tuple."""

@@ -6,8 +6,11 @@ import inspect
 import pathlib
 import unittest
 
+from pathfolios.desk import Desk
 from pathfolios.houses import Houses
 from pathfolios.keeping import Kept
+from pathfolios.replaying import replayed
+from pathfolios.store import Store
 
 PACKAGE = pathlib.Path(__file__).resolve().parent.parent / "pathfolios"
 
@@ -42,6 +45,11 @@ FUNCTIONS = {
     "joinchecker": ("lets_join(base, ours, theirs, thing)",),
     "housechecker": ("lets_houses(thing)",),
     "askers": ("are_asker_rows(thing)", "judged(history, rows)"),
+    "judgechecker": ("lets_judged(history, rows, thing)",),
+    "logs": ("is_log(thing)",),
+    "replaying": ("replayed(log)",),
+    "rowtexts": ("row_line(deed)", "log_lines(log)"),
+    "rowreadings": ("read_row(text)", "read_log(lines)"),
 }
 
 CLASSES = {
@@ -50,6 +58,8 @@ CLASSES = {
                "NoId(holder)", "NoMark(mark)", "NoName(name)", "NoHouse(house)", "NoStep(number)"),
     "keeping": ("Kept(stands)",),
     "houses": ("Houses(many=3)",),
+    "store": ("Store(many=3)",),
+    "desk": ("Desk()",),
 }
 
 METHODS = {
@@ -62,6 +72,20 @@ METHODS = {
                            "write(self, house, entry)", "send(self, house, other)", "fall(self, house)",
                            "rise(self, house)", "part(self, house, other)", "meet(self, house, other)",
                            "read(self, house, *, mark=0)", "latest(self, house)", "paper(self)"),
+    ("store", "Store"): ("paper(self)", "houses_text(self)", "leaders(self)", "stand(self, house)",
+                         "send(self, house, other)", "fall(self, house)", "rise(self, house)",
+                         "part(self, house, other)", "meet(self, house, other)", "write(self, asker, house, entry)",
+                         "turn(self, asker, house, holder, change)", "settle(self, asker, house)",
+                         "read(self, asker, house, holder)", "latest(self, asker, house, holder)",
+                         "mark_of(self, asker)", "writes_of(self, asker)", "tale_of(self, asker)",
+                         "history_of(self, house)", "ask(self, house, test, *, mark=None, plan=None, order=None)",
+                         "rows_at(self, house, name, *, mark=None)",
+                         "stream_at(self, house, test, *, since, upto=None, short=False)", "forget(self, mark)",
+                         "floor(self)", "branch(self, name, house)", "write_on(self, name, entry)",
+                         "bring(self, asker, name, house)", "branches(self)", "branch_stands(self, name)",
+                         "log(self)", "__len__(self)", "__str__(self)", "__eq__(self, other)", "__ne__(self, other)",
+                         "undo(self)", "do_all(self, deeds, *, keep=False)", "walks(self)"),
+    ("desk", "Desk"): ("say(self, asking)",),
 }
 
 DOCUMENT = ("tree", (("a", 1),))
@@ -151,6 +175,12 @@ CALLS_BY_NAME = (
     ("housechecker", "lets_houses", {"thing": ((0, None, (), 0),) * 3}, 0),
     ("askers", "are_asker_rows", {"thing": (("write", ENTRY),)}, True),
     ("askers", "judged", {"rows": (("write", ENTRY),), "history": HISTORY}, ("fits", (4,))),
+    ("judgechecker", "lets_judged", {"thing": ("fits", (4,)), "rows": (("write", ENTRY),), "history": HISTORY}, True),
+    ("logs", "is_log", {"thing": (("store", 3), ("stand", 0))}, True),
+    ("rowtexts", "row_line", {"deed": ("stand", 0)}, "stand 0"),
+    ("rowtexts", "log_lines", {"log": (("store", 3), ("stand", 0))}, ["store 3", "stand 0"]),
+    ("rowreadings", "read_row", {"text": "stand 0"}, ("stand", 0)),
+    ("rowreadings", "read_log", {"lines": ["store 3", "stand 0"]}, (("store", 3), ("stand", 0))),
 )
 
 
@@ -209,6 +239,35 @@ class Interface(unittest.TestCase):
             self.assertEqual(repr(getattr(houses, deed)(**arguments)), repr(told), deed)
         self.assertRaises(TypeError, houses.read, 0, 1)
 
+    def test_methods_of_a_store_by_name(self):
+        store = Store(many=4)
+        put = ("put", "x", DOCUMENT, 0)
+        for deed, arguments, told in (
+                ("stand", {"house": 0}, (1, (0, 1, 2, 3))), ("write", {"entry": put, "house": 0, "asker": "ann"}, 1),
+                ("turn", {"change": (None, (DEED,)), "holder": "x", "house": 0, "asker": "bo"}, 2),
+                ("send", {"other": 2, "house": 0}, ((), 0)), ("send", {"other": 1, "house": 0}, ((), 2)),
+                ("settle", {"house": 1, "asker": "ann"}, ((1,), ())),
+                ("read", {"holder": "x", "house": 1, "asker": "cy"}, (2, OTHER)),
+                ("latest", {"holder": "y", "house": 0, "asker": "cy"}, (2, None)),
+                ("mark_of", {"asker": "ann"}, 1), ("writes_of", {"asker": "bo"}, ((2, 1, ("put", "x", OTHER, 0)),)),
+                ("tale_of", {"asker": "ann"}, (("write", put),)),
+                ("history_of", {"house": 3}, (0, ((), (), ()), ())),
+                ("ask", {"order": PATH, "plan": ("all",), "mark": 1, "test": ("and", ()), "house": 0},
+                 (("x", DOCUMENT),)),
+                ("stream_at", {"short": True, "upto": 2, "since": 1, "test": ("and", ()), "house": 0},
+                 (("on", 2, "x", OTHER),)),
+                ("forget", {"mark": 0}, None), ("branch", {"house": 0, "name": "far"}, None),
+                ("write_on", {"entry": ENTRY, "name": "far"}, None), ("branch_stands", {"name": "far"}, ((), (), ())),
+                ("bring", {"house": 0, "name": "far", "asker": "ann"}, ((3,), (), ())),
+                ("part", {"other": 3, "house": 0}, True), ("meet", {"other": 3, "house": 0}, True),
+                ("fall", {"house": 3}, None), ("rise", {"house": 3}, None),
+                ("write", {"entry": ("index",) + INDEX, "house": 0, "asker": "ann"}, 4),
+                ("send", {"other": 1, "house": 0}, ((), 2)), ("send", {"other": 2, "house": 0}, ((), 4)),
+                ("rows_at", {"mark": 4, "name": "by", "house": 0}, ()),
+                ("do_all", {"keep": True, "deeds": (("fall", 3),)}, 1)):
+            self.assertEqual(repr(getattr(store, deed)(**arguments)), repr(told), deed)
+        self.assertEqual(Desk().say(asking="store 3"), "ok")
+
     def test_what_stands_behind_a_star_has_no_place(self):
         for module, calls in FUNCTIONS.items():
             for call in [call for call in calls if "*" in call]:
@@ -223,8 +282,11 @@ class Interface(unittest.TestCase):
                 answer = held(**arguments)
                 self.assertEqual(repr(answer), repr(told))
 
+    def test_replayed_by_name(self):
+        self.assertTrue(replayed(log=(("store", 4),)) == Store(4))
+
     def test_each_function_is_called_by_name(self):
-        called = sorted([module + "." + name for module, name, _, _ in CALLS_BY_NAME])
+        called = sorted(["replaying.replayed"] + [module + "." + name for module, name, _, _ in CALLS_BY_NAME])
         told = sorted([module + "." + call.partition("(")[0] for module, calls in FUNCTIONS.items() for call in calls])
         self.assertEqual(called, told)
 
