@@ -162,19 +162,18 @@ class Stand(HousesCase):
         self.told(0, houses.vote_of, 0)
 
     def test_one_in_just_the_term_that_hasnt_voted(self):
-        houses = led_by(0, many=5)
-        houses.part(1, 2)
-        houses.part(0, 2)
-        houses.stand(3)
-        self.assertEqual(str(houses), "2.0.0 2.0.0 2.0.0 2.0.0+ 2.0.0")
-        houses.fall(3)
-        houses.part(1, 0)
-        houses.stand(1)
-        self.assertEqual(str(houses), "2.0.0 3.0.0 2.0.0 2.0.0- 3.0.0")
-        self.assertEqual([houses.vote_of(house) for house in range(5)], [3, 1, 3, 3, 1])
+        houses = Houses()
+        for one, other in ((0, 1), (0, 2), (1, 2)):
+            houses.part(one, other)
+        for house, many in ((0, 5), (2, 4)):
+            for _ in range(many):
+                houses.stand(house)
         houses.meet(0, 1)
-        self.deed(houses, "3.0.0 3.0.0 2.0.0 2.0.0- 3.0.0", (3, (0,)), "stand", 0)
-        self.deed(houses, "4.0.0+ 4.0.0 2.0.0 2.0.0- 4.0.0", (4, (0, 1, 4)), "stand", 0)
+        self.deed(houses, "5.0.0 5.0.0 4.0.0", (5, ()), "stand", 1)
+        houses.meet(1, 2)
+        # 1 came INTO TERM 5 without a vote, and gives it now.
+        self.deed(houses, "5.0.0 5.0.0 5.0.0+", (5, (1, 2)), "stand", 2)
+        self.assertEqual([houses.vote_of(house) for house in range(3)], [0, 2, 2])
 
     def test_a_neighbour_that_comes_into_the_term_leads_no_more(self):
         houses = led_by(0)

@@ -92,7 +92,7 @@ def some_store(source, number, many=80, each=None):
 class WhateverIsDone(Checks):
     def test_tales_fit_the_histories_of_houses(self):
         source = random.Random(80)
-        self.seen = {"tales": 0, "writes": 0, "reads": 0}
+        self.seen = {"writes": 0, "reads": 0}
         for number in range(60):
             self.marks = {asker: 0 for asker in ASKERS}
             some_store(source, number, 60, self.tales_fit)
